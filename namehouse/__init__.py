@@ -1,0 +1,1 @@
+"""Namehouse: names of labels, their zones, keepers, copies, askers and seals."""
