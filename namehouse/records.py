@@ -105,4 +105,8 @@ def data_rank(kind, data):
     """What data of a kind are ordered by."""
     if kind in ("keeper", "other"):
         return name_rank(data)
+    if kind == "gap":
+        # A name is ordered as names are wherever it stands in data.
+        name, kinds = data
+        return name_rank(name), kinds
     return data

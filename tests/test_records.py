@@ -179,6 +179,14 @@ class OrderedTest(unittest.TestCase):
                     [(9, ((), ("text",))), (8, (("a",), ())), (7, (("a",), ("addr",))), (6, (("a",), ("addr", "gap"))),
                      (5, (("a",), ("addr", "text"))), (4, (("a",), ("gap",))), (3, (("b",), ()))]])
 
+    def test_the_name_in_a_gaps_data_as_names(self):
+        self.check([((), "gap", live, data) for live, data in
+                    [(9, ((), ALL_KINDS)), (8, (("*",), ())), (7, (("z",), ("top",))), (6, (("*", "z"), ())),
+                     (5, (("a", "z"), ())), (4, (("a", "z"), ("addr",))), (3, (("a", "z"), ("addr", "text"))),
+                     (2, (("a", "a", "z"), ())), (1, (("b", "z"), ())), (0, (("a", "zz"), ()))]])
+        self.check([((), "gap", 5, (("b", "y"), ())), ((), "gap", 5, (("a", "z"), ()))])
+        self.check([((), "gap", 5, (("z",), ("text",))), ((), "gap", 5, (("a", "z"), ("addr",)))])
+
     def test_then_by_live(self):
         self.check([(("a",), "addr", live, 7) for live in [0, 1, 2, 9, 10, 60, 100, 10 ** 6]]
                    + [(("a",), "addr", live, 8) for live in [0, 3]])
