@@ -7,6 +7,7 @@ from namehouse.signs import is_sign
 
 KINDS = ("addr", "text", "keeper", "other", "top", "key", "trust", "seal", "gap")
 LONGEST_LIFE = 1000000
+HIGHEST_VERSION = 4294967295
 HIGHEST_KEY = 1000000000000
 HIGHEST_SUM = 1000000006
 MOST_TEXT = 30
@@ -39,11 +40,16 @@ def _is_named(thing):
     return is_starless(thing)
 
 
+def is_version(thing):
+    """Whether thing is the version of a top."""
+    return within(thing, 0, HIGHEST_VERSION)
+
+
 def _is_top(thing):
     if not isinstance(thing, tuple) or len(thing) != 2:
         return False
     version, none = thing
-    return within(version, 0, 2 ** 32 - 1) and is_life(none)
+    return is_version(version) and is_life(none)
 
 
 def _is_seal(thing):
@@ -77,10 +83,13 @@ def is_record(thing):
     if not isinstance(thing, tuple) or len(thing) != 4:
         return False
     name, kind, live, data = thing
-    if not (is_name(name) and is_kind(kind) and is_life(live)):
-        return False
+    return is_name(name) and is_kind(kind) and is_life(live) and is_data(kind, data)
+
+
+def is_data(kind, thing):
+    """Whether thing is data of this kind."""
     fits = _DATA_TESTS[kind]
-    return fits(data)
+    return fits(thing)
 
 
 def are_records(thing):

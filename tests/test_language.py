@@ -16,7 +16,8 @@ METHODS = """append clear copy count endswith extend find get index insert isaln
     split splitlines startswith strip update upper values zfill bit_length title capitalize swapcase casefold center
     expandtabs removeprefix removesuffix rindex isascii isdecimal isnumeric istitle isidentifier isprintable add discard
     sort format encode decode __init__""".split()
-BARRED_WORDS = ["typing", "enum", "namedtuple", "dataclass", "overload", "contextmanager", "abstractmethod"]
+BARRED_WORDS = ["dataclass", "overload", "contextmanager", r"\btyping\b", r"\benum\b", r"\bnamedtuple\b", r"\babstractmethod\b",
+                r"\btype\b"]
 BARRED_NAMES = ["register", "mro", "elements", "open", "input", "law", "version_info", "with_traceback", "add_note",
                 "_record", "_cold", "_outside"]
 BARRED_NODES = (ast.Global, ast.AsyncFunctionDef, ast.AsyncFor, ast.AsyncWith, ast.Await, ast.Div)
@@ -49,7 +50,7 @@ class LanguageTest(unittest.TestCase):
             self.assertLessEqual(len(text.splitlines()), 399, name)
             self.assertLessEqual(max(len(line) for line in text.splitlines()), 120, name)
             for word in BARRED_WORDS:
-                self.assertNotIn(word, text, name)
+                self.assertNotRegex(text, word, name)
 
     def test_sizes_of_functions_and_no_decorators_of_functions(self):
         for where, node in self.nodes():
@@ -114,6 +115,25 @@ class LanguageTest(unittest.TestCase):
                 self.assertFalse(hasattr(builtins, node.arg), where)
             if isinstance(node, ast.Call) and isinstance(node.func, ast.Attribute):
                 self.assertIn(node.func.attr, own | set(METHODS), where)
+
+    def test_no_variable_has_the_name_of_an_import_or_a_class_of_its_file(self):
+        for name, tree in self.trees.items():
+            taken = {node.name for node in ast.walk(tree) if isinstance(node, ast.ClassDef)}
+            for node in ast.walk(tree):
+                if isinstance(node, ast.ImportFrom):
+                    taken.update(alias.name for alias in node.names)
+            for node in ast.walk(tree):
+                if isinstance(node, ast.arg):
+                    self.assertNotIn(node.arg, taken, name)
+                if isinstance(node, ast.Name) and isinstance(node.ctx, ast.Store):
+                    self.assertNotIn(node.id, taken, name)
+
+    def test_methods_and_attributes_of_a_class_are_unlike(self):
+        for where, node in self.nodes():
+            if isinstance(node, ast.ClassDef):
+                methods = {part.name for part in node.body if isinstance(part, ast.FunctionDef)}
+                kept = {part.attr for part in ast.walk(node) if isinstance(part, ast.Attribute) and isinstance(part.ctx, ast.Store)}
+                self.assertEqual(methods & kept, set(), where)
 
     def test_strings(self):
         for where, node in self.nodes():
