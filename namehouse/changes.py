@@ -2,7 +2,7 @@
 
 from namehouse.lookup import data_of, set_of
 from namehouse.names import is_name
-from namehouse.records import HIGHEST_VERSION, are_records, is_data, is_kind
+from namehouse.records import HIGHEST_VERSION, are_records, are_unlike, is_data, is_kind
 
 
 def is_change(wishes, takes, puts):
@@ -26,16 +26,12 @@ def _is_wish(thing):
 
 
 def _are_data(kind, thing):
-    return isinstance(thing, list) and all([is_data(kind, data) for data in thing]) and _are_unlike(thing)
+    return isinstance(thing, list) and all([is_data(kind, data) for data in thing]) and are_unlike(thing)
 
 
 def _are_moved(thing):
     """Whether thing is a list of what may be taken or put."""
-    return are_records(thing) and all([record[1] != "top" for record in thing]) and _are_unlike(thing)
-
-
-def _are_unlike(things):
-    return len(set(things)) == len(things)
+    return are_records(thing) and all([record[1] != "top" for record in thing]) and are_unlike(thing)
 
 
 def holds(wish, records):

@@ -9,6 +9,7 @@ from namehouse.rowwriter import RowWriter
 
 WAYS = ("ask", "answer")
 OUTCOMES = ("good", "empty", "lacking", "handed", "refused")
+HIGHEST_NUMBER = 65535
 MOST_RECORDS = 61
 LONGEST_ROW = 2000
 
@@ -18,7 +19,7 @@ def is_letter(thing):
     if not isinstance(thing, tuple) or len(thing) != 8:
         return False
     number, way, name, kind, outcome, answers, keepers, beside = thing
-    if not (within(number, 0, 65535) and _is_one_of(way, WAYS) and is_name(name) and is_kind(kind)):
+    if not (within(number, 0, HIGHEST_NUMBER) and _is_one_of(way, WAYS) and is_name(name) and is_kind(kind)):
         return False
     if not (_is_one_of(outcome, OUTCOMES) and all([are_records(part) for part in (answers, keepers, beside)])):
         return False

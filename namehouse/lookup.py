@@ -28,6 +28,19 @@ def is_there(records, name):
     return any([below(record[0], name) for record in records])
 
 
+def nearest_above(records, name):
+    """The nearest name above that is there, of a name that isn't and that is below the top's."""
+    above = name[1:]
+    while not is_there(records, above):
+        above = above[1:]
+    return above
+
+
+def named(records, name):
+    """The records with another name put."""
+    return [(name,) + record[1:] for record in records]
+
+
 def top_of(records):
     """The top of a zone's records."""
     return of_kind(records, "top")[0]
@@ -38,9 +51,10 @@ def handed_keepers(records, origin):
     return [record for record in of_kind(records, "keeper") if record[0] != origin]
 
 
-def handed_on_over(records, origin, name):
-    """The handed-on name that a name is below, or None."""
+def handed_on_for(records, origin, name, kind):
+    """The handed-on name at which a zone hands on, asked for a name and a kind; None where it doesn't."""
     found = [record[0] for record in handed_keepers(records, origin) if below(name, record[0])]
-    if not found:
+    # What the zone itself tells of a handed-on name are its trusts.
+    if not found or (name == found[0] and kind == "trust"):
         return None
     return found[0]

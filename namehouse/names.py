@@ -64,7 +64,12 @@ def star_of(name):
     _want_name(name)
     if not name:
         raise BadName("a name without a label has no place for a star")
-    return (STAR,) + name[1:]
+    return star_ahead(name[1:])
+
+
+def star_ahead(name):
+    """The star ahead of a name of five labels at the most."""
+    return (STAR,) + name
 
 
 def ordered_names(names):

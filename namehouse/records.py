@@ -28,7 +28,8 @@ def is_key(thing):
     return within(thing, 1, HIGHEST_KEY)
 
 
-def _is_addr(thing):
+def is_addr(thing):
+    """Whether thing is an addr."""
     return within(thing, 0, 2 ** 64 - 1)
 
 
@@ -73,7 +74,7 @@ def _are_rising_kinds(thing):
 
 
 _DATA_TESTS = {
-    "addr": _is_addr, "text": _is_text, "keeper": _is_named, "other": _is_named, "top": _is_top,
+    "addr": is_addr, "text": _is_text, "keeper": _is_named, "other": _is_named, "top": _is_top,
     "key": is_key, "trust": is_key, "seal": _is_seal, "gap": _is_gap,
 }
 
@@ -97,11 +98,30 @@ def are_records(thing):
     return isinstance(thing, list) and all([is_record(record) for record in thing])
 
 
+def are_one_set(thing):
+    """Whether thing is a list of records of one name and kind, one at least."""
+    return are_records(thing) and len({record[:2] for record in thing}) == 1
+
+
+def are_unlike(things):
+    """Whether no two of these are alike; they are records, or data, or such."""
+    return len(set(things)) == len(things)
+
+
 def ordered(records):
     """A new list of the records: by name, then kind, then data, then live."""
     if not are_records(records):
         raise BadRecord("no list of records")
     return sorted(records, key=record_rank)
+
+
+def each_once(records):
+    """A new list of the records, in order, each once."""
+    found = []
+    for record in ordered(records):
+        if not found or found[-1] != record:
+            found.append(record)
+    return found
 
 
 def record_rank(record):

@@ -1,18 +1,16 @@
 """What a zone tells of a name and a kind, and the letter that answers an ask."""
 
-from namehouse.errors import BadLetter, BadName, BadRecord
+from namehouse.errors import BadLetter
 from namehouse.letters import is_letter, row_of
-from namehouse.lookup import data_of, handed_on_over, is_there, of_kind, of_name, set_of, top_of
-from namehouse.names import STAR, below, is_name
-from namehouse.records import is_kind
+from namehouse.lookup import data_of, handed_on_for, is_there, named, nearest_above, of_kind, of_name, set_of, top_of
+from namehouse.names import below, star_ahead
+from namehouse.wants import want_kind, want_name
 
 
 def told(zone, name, kind):
     """What the zone tells: (outcome, answers, keepers, beside)."""
-    if not is_name(name):
-        raise BadName("no name")
-    if not is_kind(kind):
-        raise BadRecord("no kind")
+    want_name(name)
+    want_kind(kind)
     if not below(name, zone.origin):
         return "refused", [], [], []
     return _told(zone.origin, zone.records(), name, kind, [name])
@@ -20,8 +18,8 @@ def told(zone, name, kind):
 
 def _told(origin, records, name, kind, passed):
     """What is told of a name below the origin; passed are the names that were asked or gone through, this one too."""
-    place = handed_on_over(records, origin, name)
-    if place is not None and (name != place or kind != "trust"):
+    place = handed_on_for(records, origin, name, kind)
+    if place is not None:
         return _handed(records, place)
     here = of_name(records, name)
     if not is_there(records, name):
@@ -50,10 +48,7 @@ def _handed(records, place):
 
 def _by_star(records, name):
     """The records of the star ahead of the nearest name above that is there, told as those of a name that isn't."""
-    above = name[1:]
-    while not is_there(records, above):
-        above = above[1:]
-    return [(name,) + record[1:] for record in of_name(records, (STAR,) + above)]
+    return named(of_name(records, star_ahead(nearest_above(records, name))), name)
 
 
 def answer_of(zone, letter):
