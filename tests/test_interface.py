@@ -12,6 +12,8 @@ FUNCTIONS = {
     "zonetext": ["record_text(record)", "record_of(text)", "zone_text(zone)", "read_zone(text)"],
     "telling": ["told(zone, name, kind)", "answer_of(zone, letter)"],
     "seals": ["sum_of(records, key)", "is_right(records, seal)", "sealed(zone, keys)"],
+    "shown": ["step_of(zone, name, kind)", "shown(trusted, steps, name, kind)"],
+    "desk": ["answered(house, line)", "played(house, lines)"],
 }
 CLASSES = {
     "zones": {"Zone": ["__init__(self, origin, records)", "records(self)", "has(self, name)"]},
@@ -21,6 +23,10 @@ CLASSES = {
                           "many(self, turn)"]},
     "asker": {"Asker": ["__init__(self, roots)", "begin(self, name, kind, turn)", "hear(self, addr, row, turn)", "tick(self, turn)", "end(self)",
                         "sent(self)", "memory(self)"]},
+    "road": {"Road": ["__init__(self, row)", "send(self, letter, turn)", "due(self, turn)", "many(self)"]},
+    "house": {"House": ["__init__(self, zones, roots, road=None)", "turn(self)", "go(self)", "ask(self, name, kind)", "end(self)", "sent(self)",
+                        "zone(self, addr)", "change(self, addr, wishes, takes, puts)", "copy(self, addr, of)", "follow(self, addr)",
+                        "sleep(self, addr)", "wake(self, addr)", "book(self)"]},
 }
 
 

@@ -135,6 +135,24 @@ class LanguageTest(unittest.TestCase):
                 kept = {part.attr for part in ast.walk(node) if isinstance(part, ast.Attribute) and isinstance(part.ctx, ast.Store)}
                 self.assertEqual(methods & kept, set(), where)
 
+    def test_names_of_classes_and_underscores(self):
+        for where, node in self.nodes():
+            if isinstance(node, ast.ClassDef):
+                self.assertRegex(node.name, "^[A-Z]", where)
+            if isinstance(node, ast.Name) and node.id == "_":
+                self.assertIsInstance(node.ctx, ast.Store, where)
+            if isinstance(node, (ast.Tuple, ast.List)) and isinstance(node.ctx, ast.Store):
+                self.assertLessEqual([getattr(part, "id", "") for part in node.elts].count("_"), 1, where)
+
+    def test_sets_are_only_sorted_measured_or_looked_into(self):
+        for where, node in self.nodes():
+            for part in ast.iter_child_nodes(node):
+                is_set = isinstance(part, (ast.Set, ast.SetComp)) or (
+                    isinstance(part, ast.Call) and isinstance(part.func, ast.Name) and part.func.id == "set")
+                if is_set:
+                    self.assertIsInstance(node, ast.Call, where)
+                    self.assertIn(node.func.id, ("sorted", "len"), where)
+
     def test_strings(self):
         for where, node in self.nodes():
             if isinstance(node, ast.Constant) and isinstance(node.value, str):
