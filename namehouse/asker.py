@@ -196,8 +196,8 @@ def _root_rank(pair):
 
 def _places(name, kind):
     """The names at which may be asked, the nearest ahead."""
-    if kind == "trust" and name:
-        # A trust of a name is told by the zone above it.
+    if kind == "trust":
+        # A trust of a name is told by the zone above it; of () by its own.
         name = name[1:]
     return [name[at:] for at in range(len(name) + 1)]
 

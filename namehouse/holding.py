@@ -57,7 +57,7 @@ class Holding:
         """The set of a name and a kind, in order, if it holds; else []."""
         records = set_of(self._records, name, kind)
         seals = [seal for seal in set_of(self._records, name, "seal") if seal[3][1] in self._keys]
-        if any([seal[3][0] == kind and _is_right_of(records, seal) for seal in seals]):
+        if any([_is_right_of(records, seal) for seal in seals]):
             return records
         return []
 
@@ -76,6 +76,7 @@ class Holding:
 
 
 def _is_right_of(records, seal):
+    """Whether a seal is right of these, which may be no set."""
     try:
         return is_right(records, seal)
     except (BadRecord, BadLetter):

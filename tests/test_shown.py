@@ -307,6 +307,22 @@ class SeveralStepsTest(ShownCase):
         self.shows([(at("d"), top[1]), step], "w.d", "addr", None)
         self.shows([(at("c"), self.steps[0][1])] + self.steps[1:], "w.b.c", "addr", None)
 
+    def test_the_first_step_is_the_roots(self):
+        for steps, trusted in ((self.steps[1:], 6), (self.steps[1:], 7), (self.steps[2:], 8)):
+            self.shows(steps, "w.b.c", "addr", None, trusted)
+        zone = sealed_at("a", [3], rec("w.a", "addr", 1))
+        self.shows([step_of(zone, at("w.a"), "addr")], "w.a", "addr", None)
+
+    def test_each_next_ones_origin_is_below_that_of_the_step_ahead_and_not_it(self):
+        # All is trusted and sealed; the origins alone aren't right.
+        sets = [[rec(name, "trust", 3)] for name in ("", "c", "d", "x.d", "b.c")]
+        steps = {name: (at(name), with_seals(3, [rec(name, "key", 3)], [rec("w.b.c", "addr", 1)], *sets)) for name in ("", "c", "d", "b.c")}
+        for origins, good in [(["", "c", "b.c"], True), (["", "b.c"], True), (["", "c"], True), ([""], True), (["", "", "b.c"], False),
+                              (["", "c", "c"], False), (["", "c", "c", "b.c"], False), (["c", "b.c"], False), (["", "b.c", "c"], False),
+                              (["", "d", "b.c"], False), (["", "d", "c", "b.c"], False), (["", "c", "", "b.c"], False), (["", ""], False)]:
+            wanted = ("good", [rec("w.b.c", "addr", 1)]) if good else None
+            self.shows([steps[name] for name in origins], "w.b.c", "addr", wanted)
+
     def test_every_record_of_each_step_is_needed(self):
         for place, (origin, records) in enumerate(self.steps):
             for left in range(len(records)):

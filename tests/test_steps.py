@@ -102,7 +102,7 @@ class StepOfTest(StepCase):
         self.step(zone, "ss.firm", "addr", ("firm", "key"), ("s.firm", "gap"), ("*.firm", "addr"), ("*.firm", "gap"))
 
     def test_a_name_that_isnt_below_the_origin(self):
-        for name in ("", "com", "b", "firm.com", "*.com"):
+        for name in ("", "com", "b", "firm.com", "*.com", "z", "x.y.z", "*.z"):
             for kind in ASKED_KINDS:
                 self.step(self.zone, name, kind, ("firm", "key"))
 
